@@ -1,0 +1,92 @@
+package culvert_test
+
+import (
+	"fmt"
+	"strings"
+	"testing"
+
+	"culvert/api"
+	"culvert/culvert"
+)
+
+const (
+	maxInt   = 1<<63 - 1
+	minInt   = -1 << 63
+	maxValue = 1<<32 - 1
+)
+
+// rec is a record of session 0 and epoch 0.
+func rec(number int, key string, value int) api.Record {
+	return api.Record{Number: number, Key: key, Value: value}
+}
+
+// in moves a record to another session and epoch.
+func in(session, epoch int, x api.Record) api.Record {
+	x.Session, x.Epoch = session, epoch
+	return x
+}
+
+// accepts sends a record that must be let in, and lead to this base.
+func accepts(t *testing.T, r *culvert.Relay, x api.Record, base int) {
+	t.Helper()
+	if got, errno := r.Accept(x); got != base || errno != api.OK {
+		t.Fatalf("Accept(%s) = %d, %d, want %d, OK", tell(x), got, errno, base)
+	}
+}
+
+// refuses sends a record that must be answered by an error, and change nothing that can be seen.
+func refuses(t *testing.T, r *culvert.Relay, x api.Record, want api.Errno) {
+	t.Helper()
+	before := stateOf(t, r)
+	if got, errno := r.Accept(x); got != 0 || errno != want {
+		t.Errorf("Accept(%s) = %d, %d, want 0, %d", tell(x), got, errno, want)
+	}
+	if after := stateOf(t, r); after != before {
+		t.Errorf("Accept(%s) with an error left %s, was %s", tell(x), after, before)
+	}
+}
+
+// tell keeps the text of a record short, whatever its key.
+func tell(x api.Record) string {
+	return fmt.Sprintf("%d %d %d %.20q %d", x.Session, x.Epoch, x.Number, x.Key, x.Value)
+}
+
+// stateOf is State as a text: sessions as epoch:base[waiting], keys as "name"=count,fold,held.
+func stateOf(t *testing.T, r *culvert.Relay) string {
+	t.Helper()
+	s, errno := r.State()
+	if errno != api.OK {
+		t.Fatalf("State() answers %d, want OK", errno)
+	}
+	return text(s)
+}
+
+func text(s api.State) string {
+	var parts []string
+	for _, x := range s.Sessions {
+		parts = append(parts, fmt.Sprintf("%d:%d%v", x.Epoch, x.Base, x.Waiting))
+	}
+	for _, k := range s.Keys {
+		parts = append(parts, fmt.Sprintf("%q=%d,%d,%d", k.Name, k.Count, k.Fold, k.Held))
+	}
+	return strings.Join(parts, " ")
+}
+
+// shows holds the state against a text such as stateOf makes.
+func shows(t *testing.T, r *culvert.Relay, want string) {
+	t.Helper()
+	if got := stateOf(t, r); got != want {
+		t.Errorf("State() = %s\nwant %s", got, want)
+	}
+}
+
+// rest is the text of sessions 1 to 3 while they are untouched.
+const rest = " 0:0[] 0:0[] 0:0[]"
+
+// fill has session 3 take so many records of one key, each of value 1.
+func fill(t *testing.T, r *culvert.Relay, key string, count int) {
+	t.Helper()
+	for n := range count {
+		accepts(t, r, in(3, 0, rec(n, key, 1)), n+1)
+	}
+}

@@ -1,0 +1,168 @@
+package culvert_test
+
+import (
+	"math/rand"
+	"slices"
+	"strings"
+	"testing"
+
+	"culvert/api"
+	"culvert/culvert"
+)
+
+// model is the document's words, done in the slowest way: it has the whole list of what was taken,
+// and folds it each time that it is asked.
+type model struct {
+	epoch, base [4]int
+	waits       []api.Record
+	taken       []api.Record
+}
+
+func (m *model) accept(x api.Record) (int, api.Errno) {
+	if x.Session < 0 || x.Session > 3 {
+		return 0, api.ErrSession
+	}
+	if len(x.Key) < 1 || len(x.Key) > 6 || !strings.Contains("cslm", x.Key[:1]) || x.Value < 0 || x.Value > maxValue {
+		return 0, api.ErrKey
+	}
+	epoch, base, waits := m.epoch[x.Session], m.base[x.Session], slices.Clone(m.waits)
+	if x.Epoch < epoch {
+		return 0, api.ErrEpoch
+	}
+	if x.Epoch > epoch {
+		epoch, base = x.Epoch, 0
+		waits = slices.DeleteFunc(waits, func(w api.Record) bool { return w.Session == x.Session })
+	}
+	if x.Number < 0 || x.Number >= base+4 {
+		return 0, api.ErrFar
+	}
+	again := slices.ContainsFunc(waits, func(w api.Record) bool { return w.Session == x.Session && w.Number == x.Number })
+	if x.Number < base || again {
+		return base, api.OK
+	}
+	there := map[string]int{}
+	for _, list := range [][]api.Record{m.taken, waits} {
+		for _, w := range list {
+			there[w.Key]++
+		}
+	}
+	if there[x.Key] == 0 && len(there) >= 4 {
+		return 0, api.ErrMany
+	}
+	if len(m.taken)+len(waits) >= 1000 {
+		return 0, api.ErrFull
+	}
+	m.epoch[x.Session], m.base[x.Session], m.waits = epoch, base, append(waits, x)
+	m.drain(x.Session)
+	return m.base[x.Session], api.OK
+}
+
+func (m *model) drain(session int) {
+	for {
+		i := slices.IndexFunc(m.waits, func(w api.Record) bool { return w.Session == session && w.Number == m.base[session] })
+		if i < 0 {
+			return
+		}
+		m.taken = append(m.taken, m.waits[i])
+		m.waits = slices.Delete(m.waits, i, i+1)
+		m.base[session]++
+	}
+}
+
+func (m *model) state() api.State {
+	var s api.State
+	for i := range 4 {
+		var waiting []int
+		for _, w := range m.waits {
+			if w.Session == i {
+				waiting = append(waiting, w.Number)
+			}
+		}
+		slices.Sort(waiting)
+		s.Sessions = append(s.Sessions, api.Session{Epoch: m.epoch[i], Base: m.base[i], Waiting: waiting})
+	}
+	values := map[string][]int{}
+	for _, x := range m.taken {
+		values[x.Key] = append(values[x.Key], x.Value)
+	}
+	for name, list := range values {
+		s.Keys = append(s.Keys, api.Key{Name: name, Count: len(list), Fold: foldAll(name, list)})
+	}
+	slices.SortFunc(s.Keys, func(a, b api.Key) int { return slices.Compare([]byte(a.Name), []byte(b.Name)) })
+	return s
+}
+
+func foldAll(name string, values []int) int {
+	sum := 0
+	for _, v := range values {
+		sum = (sum + v) % (maxValue + 1)
+	}
+	return map[byte]int{'c': len(values), 's': sum, 'l': values[len(values)-1], 'm': slices.Max(values)}[name[0]]
+}
+
+// sameAnswer sends one record to both, and holds what they answer, and how they stand, together.
+func sameAnswer(t *testing.T, r *culvert.Relay, m *model, x api.Record) {
+	t.Helper()
+	wantBase, wantErrno := m.accept(x)
+	base, errno := r.Accept(x)
+	if base != wantBase || errno != wantErrno {
+		t.Fatalf("Accept(%s) = %d, %d, want %d, %d", tell(x), base, errno, wantBase, wantErrno)
+	}
+	if got, want := stateOf(t, r), text(m.state()); got != want {
+		t.Fatalf("behind Accept(%s): State() = %s\nwant %s", tell(x), got, want)
+	}
+}
+
+// pick gives an ordinary thing mostly, and an odd one at times.
+func pick[T any](source *rand.Rand, ordinary T, odd ...T) T {
+	if source.Intn(40) > 0 {
+		return ordinary
+	}
+	return odd[source.Intn(len(odd))]
+}
+
+// P4 and P5, with long runs of records from a seeded source: near the base, again, of late epochs,
+// of more keys than four, of more records than 1000, and of all that is wrong.
+func TestP4P5AgainstTheWords(t *testing.T) {
+	names := []string{"c", "s", "l", "m", "s\x00", "s\xff", "l12345", "c1"}
+	for seed := range int64(12) {
+		source := rand.New(rand.NewSource(seed))
+		r, m := culvert.New(), &model{}
+		keys := 2 + int(seed)%7
+		for range 1800 {
+			session := source.Intn(4)
+			x := api.Record{
+				Session: pick(source, session, -1, 4, minInt, maxInt),
+				Epoch:   m.epoch[session],
+				Number:  pick(source, m.base[session]+source.Intn(5)-1, -1, minInt, maxInt, 0, m.base[session]+4),
+				Key:     pick(source, names[source.Intn(keys)], "", "x", "sevenby", names[7]),
+				Value:   pick(source, source.Intn(10), 0, -1, maxValue, maxValue+1, minInt, maxInt),
+			}
+			if source.Intn(60) == 0 {
+				x.Epoch += source.Intn(4) - 1
+				x.Number = source.Intn(5)
+			}
+			sameAnswer(t, r, m, x)
+		}
+	}
+}
+
+// P1 and P4: every mixture of right and wrong, against the words.
+func TestP1P4EveryMixture(t *testing.T) {
+	r, m := culvert.New(), &model{}
+	for n, key := range []string{"s", "l", "m"} {
+		sameAnswer(t, r, m, in(2, 1, rec(n, key, 3)))
+	}
+	sameAnswer(t, r, m, in(2, 1, rec(5, "s", 3)))
+	for _, epoch := range []int{minInt, -1, 0, 1, 2, maxInt} {
+		for _, session := range []int{minInt, -1, 0, 2, 3, 4, maxInt} {
+			for _, key := range []string{"", "x", "s", "c", "m1", "sevenby"} {
+				for _, number := range []int{minInt, -1, 5, 4, 0, 3, 2, 1, maxInt} {
+					for _, value := range []int{minInt, -1, maxValue + 1, 0, maxValue} {
+						sameAnswer(t, r, m, api.Record{Session: session, Epoch: epoch, Number: number, Key: key, Value: value})
+					}
+				}
+			}
+		}
+	}
+}

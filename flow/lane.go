@@ -1,0 +1,53 @@
+package flow
+
+import (
+	"container/heap"
+	"slices"
+
+	"culvert/api"
+)
+
+// lane is one session: its epoch, the number that it takes next, and those that wait.
+type lane struct {
+	epoch, base int
+	waiting     queue
+}
+
+// turn begins a later epoch: what waited in the one before is never taken.
+func (l *lane) turn(epoch int) {
+	if epoch > l.epoch {
+		*l = lane{epoch: epoch}
+	}
+}
+
+func (l *lane) reaches(number int) bool {
+	return number >= 0 && number < l.base+api.MaxWindow
+}
+
+// has says whether the record with this number came already: it was taken, or it waits.
+func (l *lane) has(number int) bool {
+	return number < l.base || slices.ContainsFunc(l.waiting, func(w waiter) bool {
+		return w.number == number
+	})
+}
+
+func (l *lane) add(w waiter) { heap.Push(&l.waiting, w) }
+
+// next lets the record go whose turn it is, if it is here.
+func (l *lane) next() (waiter, bool) {
+	if len(l.waiting) == 0 || l.waiting[0].number != l.base {
+		return waiter{}, false
+	}
+	l.base++
+	return heap.Pop(&l.waiting).(waiter), true
+}
+
+// state sorts the numbers, since a heap is in order only at its top.
+func (l *lane) state() api.Session {
+	numbers := make([]int, 0, len(l.waiting))
+	for _, w := range l.waiting {
+		numbers = append(numbers, w.number)
+	}
+	slices.Sort(numbers)
+	return api.Session{Epoch: l.epoch, Base: l.base, Waiting: numbers}
+}
