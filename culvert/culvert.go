@@ -33,10 +33,24 @@ func (r *Relay) Accept(x api.Record) (int, api.Errno) {
 }
 
 // Puts tells what the sink does not hold (P6).
-func (r *Relay) Puts() ([]api.Put, api.Errno) { return nil, r.check() }
+func (r *Relay) Puts() ([]api.Put, api.Errno) {
+	r.mutex.Lock()
+	defer r.mutex.Unlock()
+	if r.closed {
+		return nil, api.ErrClosed
+	}
+	return r.flow.Puts(), api.OK
+}
 
 // Answer takes what the sink says (P7).
-func (r *Relay) Answer(key string, held int) api.Errno { return r.check() }
+func (r *Relay) Answer(key string, held int) api.Errno {
+	r.mutex.Lock()
+	defer r.mutex.Unlock()
+	if r.closed {
+		return api.ErrClosed
+	}
+	return r.flow.Answer(key, held)
+}
 
 // State tells how all stands (P5).
 func (r *Relay) State() (api.State, api.Errno) {

@@ -90,3 +90,50 @@ func fill(t *testing.T, r *culvert.Relay, key string, count int) {
 		accepts(t, r, in(3, 0, rec(n, key, 1)), n+1)
 	}
 }
+
+// putsOf is Puts as a text: each put as "key" token value.
+func putsOf(t *testing.T, r *culvert.Relay) string {
+	t.Helper()
+	puts, errno := r.Puts()
+	if errno != api.OK {
+		t.Fatalf("Puts() answers %d, want OK", errno)
+	}
+	return putsText(puts)
+}
+
+func putsText(puts []api.Put) string {
+	var parts []string
+	for _, p := range puts {
+		parts = append(parts, fmt.Sprintf("%q %d %d", p.Key, p.Token, p.Value))
+	}
+	return strings.Join(parts, ", ")
+}
+
+// puts holds what is put against a text such as putsOf makes.
+func puts(t *testing.T, r *culvert.Relay, want string) {
+	t.Helper()
+	if got := putsOf(t, r); got != want {
+		t.Errorf("Puts() = %s\nwant %s", got, want)
+	}
+}
+
+// answers tells the relay a token that it must believe.
+func answers(t *testing.T, r *culvert.Relay, key string, held int) {
+	t.Helper()
+	if errno := r.Answer(key, held); errno != api.OK {
+		t.Fatalf("Answer(%q, %d) = %d, want OK", key, held, errno)
+	}
+}
+
+// denies tells the relay a token that must be answered by an error, and change nothing that can be seen.
+func denies(t *testing.T, r *culvert.Relay, key string, held int, want api.Errno) {
+	t.Helper()
+	state, put := stateOf(t, r), putsOf(t, r)
+	if errno := r.Answer(key, held); errno != want {
+		t.Errorf("Answer(%.20q, %d) = %d, want %d", key, held, errno, want)
+	}
+	if after := stateOf(t, r); after != state {
+		t.Errorf("Answer(%.20q, %d) with an error left %s, was %s", key, held, after, state)
+	}
+	puts(t, r, put)
+}

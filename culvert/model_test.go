@@ -16,13 +16,14 @@ type model struct {
 	epoch, base [4]int
 	waits       []api.Record
 	taken       []api.Record
+	answered    []api.Put // each answer with OK: a key and a token
 }
 
 func (m *model) accept(x api.Record) (int, api.Errno) {
 	if x.Session < 0 || x.Session > 3 {
 		return 0, api.ErrSession
 	}
-	if len(x.Key) < 1 || len(x.Key) > 6 || !strings.Contains("cslm", x.Key[:1]) || x.Value < 0 || x.Value > maxValue {
+	if !isKeyByTheWords(x.Key) || x.Value < 0 || x.Value > maxValue {
 		return 0, api.ErrKey
 	}
 	epoch, base, waits := m.epoch[x.Session], m.base[x.Session], slices.Clone(m.waits)
@@ -86,10 +87,55 @@ func (m *model) state() api.State {
 		values[x.Key] = append(values[x.Key], x.Value)
 	}
 	for name, list := range values {
-		s.Keys = append(s.Keys, api.Key{Name: name, Count: len(list), Fold: foldAll(name, list)})
+		s.Keys = append(s.Keys, api.Key{Name: name, Count: len(list), Fold: foldAll(name, list), Held: m.held(name)})
 	}
 	slices.SortFunc(s.Keys, func(a, b api.Key) int { return slices.Compare([]byte(a.Name), []byte(b.Name)) })
 	return s
+}
+
+// held is the greatest token that was ever answered.
+func (m *model) held(name string) int {
+	held := 0
+	for _, a := range m.answered {
+		if a.Key == name && a.Token > held {
+			held = a.Token
+		}
+	}
+	return held
+}
+
+func (m *model) puts() []api.Put {
+	var puts []api.Put
+	for _, k := range m.state().Keys {
+		if k.Count > k.Held {
+			puts = append(puts, api.Put{Key: k.Name, Token: k.Count, Value: k.Fold})
+		}
+	}
+	return puts
+}
+
+func (m *model) answer(name string, held int) api.Errno {
+	if !isKeyByTheWords(name) {
+		return api.ErrKey
+	}
+	count := 0
+	for _, x := range m.taken {
+		if x.Key == name {
+			count++
+		}
+	}
+	if count == 0 {
+		return api.ErrNone
+	}
+	if held < 0 || held > count {
+		return api.ErrHeld
+	}
+	m.answered = append(m.answered, api.Put{Key: name, Token: held})
+	return api.OK
+}
+
+func isKeyByTheWords(name string) bool {
+	return len(name) >= 1 && len(name) <= 6 && strings.Contains("cslm", name[:1])
 }
 
 func foldAll(name string, values []int) int {
@@ -100,16 +146,35 @@ func foldAll(name string, values []int) int {
 	return map[byte]int{'c': len(values), 's': sum, 'l': values[len(values)-1], 'm': slices.Max(values)}[name[0]]
 }
 
-// sameAnswer sends one record to both, and holds what they answer, and how they stand, together.
-func sameAnswer(t *testing.T, r *culvert.Relay, m *model, x api.Record) {
+// sameAccept sends one record to both, and holds what they answer, and how they stand, together.
+func sameAccept(t *testing.T, r *culvert.Relay, m *model, x api.Record) {
 	t.Helper()
 	wantBase, wantErrno := m.accept(x)
 	base, errno := r.Accept(x)
 	if base != wantBase || errno != wantErrno {
 		t.Fatalf("Accept(%s) = %d, %d, want %d, %d", tell(x), base, errno, wantBase, wantErrno)
 	}
+	sameStand(t, r, m, x)
+}
+
+// sameAnswer tells both what the sink holds, and does likewise.
+func sameAnswer(t *testing.T, r *culvert.Relay, m *model, key string, held int) {
+	t.Helper()
+	want := m.answer(key, held)
+	if errno := r.Answer(key, held); errno != want {
+		t.Fatalf("Answer(%.20q, %d) = %d, want %d", key, held, errno, want)
+	}
+	sameStand(t, r, m, api.Put{Key: key, Token: held})
+}
+
+// sameStand holds how both stand together, behind what was sent.
+func sameStand(t *testing.T, r *culvert.Relay, m *model, sent any) {
+	t.Helper()
 	if got, want := stateOf(t, r), text(m.state()); got != want {
-		t.Fatalf("behind Accept(%s): State() = %s\nwant %s", tell(x), got, want)
+		t.Fatalf("behind %+v: State() = %s\nwant %s", sent, got, want)
+	}
+	if got, want := putsOf(t, r), putsText(m.puts()); got != want {
+		t.Fatalf("behind %+v: Puts() = %s\nwant %s", sent, got, want)
 	}
 }
 
@@ -121,9 +186,10 @@ func pick[T any](source *rand.Rand, ordinary T, odd ...T) T {
 	return odd[source.Intn(len(odd))]
 }
 
-// P4 and P5, with long runs of records from a seeded source: near the base, again, of late epochs,
-// of more keys than four, of more records than 1000, and of all that is wrong.
-func TestP4P5AgainstTheWords(t *testing.T) {
+// P4 to P7, with long runs of records from a seeded source: near the base, again, of late epochs,
+// of more keys than four, of more records than 1000, and of all that is wrong; and between them answers,
+// of tokens at, below and above what is held, and above the count.
+func TestP4ToP7AgainstTheWords(t *testing.T) {
 	names := []string{"c", "s", "l", "m", "s\x00", "s\xff", "l12345", "c1"}
 	for seed := range int64(12) {
 		source := rand.New(rand.NewSource(seed))
@@ -142,24 +208,43 @@ func TestP4P5AgainstTheWords(t *testing.T) {
 				x.Epoch += source.Intn(4) - 1
 				x.Number = source.Intn(5)
 			}
-			sameAnswer(t, r, m, x)
+			sameAccept(t, r, m, x)
+			if source.Intn(4) == 0 {
+				key := pick(source, names[source.Intn(keys)], "", "x", "sevenby", names[7])
+				sameAnswer(t, r, m, key, anyToken(source, m, key))
+			}
 		}
 	}
+}
+
+// anyToken is mostly one that the sink can hold: near Held, or near the count.
+func anyToken(source *rand.Rand, m *model, name string) int {
+	count := 0
+	for _, k := range m.state().Keys {
+		if k.Name == name {
+			count = k.Count
+		}
+	}
+	near := m.held(name)
+	if source.Intn(4) == 0 {
+		near = count
+	}
+	return pick(source, near+source.Intn(4)-1, 0, -1, count, count+1, minInt, maxInt)
 }
 
 // P1 and P4: every mixture of right and wrong, against the words.
 func TestP1P4EveryMixture(t *testing.T) {
 	r, m := culvert.New(), &model{}
 	for n, key := range []string{"s", "l", "m"} {
-		sameAnswer(t, r, m, in(2, 1, rec(n, key, 3)))
+		sameAccept(t, r, m, in(2, 1, rec(n, key, 3)))
 	}
-	sameAnswer(t, r, m, in(2, 1, rec(5, "s", 3)))
+	sameAccept(t, r, m, in(2, 1, rec(5, "s", 3)))
 	for _, epoch := range []int{minInt, -1, 0, 1, 2, maxInt} {
 		for _, session := range []int{minInt, -1, 0, 2, 3, 4, maxInt} {
 			for _, key := range []string{"", "x", "s", "c", "m1", "sevenby"} {
 				for _, number := range []int{minInt, -1, 5, 4, 0, 3, 2, 1, maxInt} {
 					for _, value := range []int{minInt, -1, maxValue + 1, 0, maxValue} {
-						sameAnswer(t, r, m, api.Record{Session: session, Epoch: epoch, Number: number, Key: key, Value: value})
+						sameAccept(t, r, m, api.Record{Session: session, Epoch: epoch, Number: number, Key: key, Value: value})
 					}
 				}
 			}

@@ -11,13 +11,18 @@ import (
 type ledger []api.Key
 
 func (l *ledger) take(name string, value int) {
-	at, found := slices.BinarySearchFunc(*l, name, compareName)
+	at, found := l.find(name)
 	if !found {
 		*l = slices.Insert(*l, at, api.Key{Name: name})
 	}
 	key := &(*l)[at]
 	key.Count++
 	key.Fold = fold(*key, value)
+}
+
+// find tells where a key stands, or would stand, and whether it does.
+func (l ledger) find(name string) (int, bool) {
+	return slices.BinarySearchFunc(l, name, compareName)
 }
 
 func compareName(key api.Key, name string) int { return strings.Compare(key.Name, name) }
