@@ -2,10 +2,12 @@
 package culvert
 
 import (
+	"errors"
 	"sync"
 
 	"culvert/api"
 	"culvert/flow"
+	"culvert/tape"
 )
 
 // Relay is one. Many may call it at the same time: each call has it for itself.
@@ -14,13 +16,28 @@ type Relay struct {
 	once   sync.Once
 	closed bool // written in once alone
 	flow   flow.Flow
+	bytes  []byte // what the flow was made of, and all that changed it since
 }
 
 // New makes a relay (P3).
-func New() *Relay { return &Relay{} }
+func New() *Relay {
+	return &Relay{bytes: tape.Head(&flow.Flow{})}
+}
 
-// Open makes a relay of bytes (P9). No bytes are known to it yet, so it refuses all.
-func Open(bytes string) (*Relay, api.Errno) { return nil, api.ErrBytes }
+// Open makes a relay of bytes (P9).
+func Open(bytes string) (*Relay, api.Errno) {
+	told, counted, err := tape.Read(bytes)
+	if counted == 0 || err != nil && !isCut(err) {
+		return nil, api.ErrBytes
+	}
+	return &Relay{flow: told, bytes: []byte(bytes[:counted])}, api.OK
+}
+
+// isCut says whether no more is wrong than that the last call was not kept to its end: those ahead of it were.
+func isCut(err error) bool {
+	var fault tape.Fault
+	return errors.As(err, &fault) && fault == tape.Cut
+}
 
 // Accept takes a record (P4).
 func (r *Relay) Accept(x api.Record) (int, api.Errno) {
@@ -29,7 +46,11 @@ func (r *Relay) Accept(x api.Record) (int, api.Errno) {
 	if r.closed {
 		return 0, api.ErrClosed
 	}
-	return r.flow.Accept(x)
+	base, changed, errno := r.flow.Accept(x)
+	if changed {
+		r.bytes = tape.AddRecord(r.bytes, x)
+	}
+	return base, errno
 }
 
 // Puts tells what the sink does not hold (P6).
@@ -49,7 +70,11 @@ func (r *Relay) Answer(key string, held int) api.Errno {
 	if r.closed {
 		return api.ErrClosed
 	}
-	return r.flow.Answer(key, held)
+	changed, errno := r.flow.Answer(key, held)
+	if changed {
+		r.bytes = tape.AddAnswer(r.bytes, key, held)
+	}
+	return errno
 }
 
 // State tells how all stands (P5).
@@ -63,10 +88,25 @@ func (r *Relay) State() (api.State, api.Errno) {
 }
 
 // Bytes tells what is kept (P8).
-func (r *Relay) Bytes() (string, api.Errno) { return "", r.check() }
+func (r *Relay) Bytes() (string, api.Errno) {
+	r.mutex.Lock()
+	defer r.mutex.Unlock()
+	if r.closed {
+		return "", api.ErrClosed
+	}
+	return string(r.bytes), api.OK
+}
 
 // Shrink makes that small (P8).
-func (r *Relay) Shrink() api.Errno { return r.check() }
+func (r *Relay) Shrink() api.Errno {
+	r.mutex.Lock()
+	defer r.mutex.Unlock()
+	if r.closed {
+		return api.ErrClosed
+	}
+	r.bytes = tape.Head(&r.flow)
+	return api.OK
+}
 
 // Close closes it (P3).
 func (r *Relay) Close() api.Errno {
@@ -75,18 +115,8 @@ func (r *Relay) Close() api.Errno {
 	errno := api.ErrClosed
 	r.once.Do(func() {
 		r.closed = true
-		r.flow = flow.Flow{} // nobody can ask for it any more
+		r.flow, r.bytes = flow.Flow{}, nil // nobody can ask for them any more
 		errno = api.OK
 	})
 	return errno
-}
-
-// check is what the calls answer that have nothing else to say yet.
-func (r *Relay) check() api.Errno {
-	r.mutex.Lock()
-	defer r.mutex.Unlock()
-	if r.closed {
-		return api.ErrClosed
-	}
-	return api.OK
 }

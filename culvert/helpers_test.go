@@ -37,12 +37,15 @@ func accepts(t *testing.T, r *culvert.Relay, x api.Record, base int) {
 // refuses sends a record that must be answered by an error, and change nothing that can be seen.
 func refuses(t *testing.T, r *culvert.Relay, x api.Record, want api.Errno) {
 	t.Helper()
-	before := stateOf(t, r)
+	before, kept := stateOf(t, r), bytesOf(t, r)
 	if got, errno := r.Accept(x); got != 0 || errno != want {
 		t.Errorf("Accept(%s) = %d, %d, want 0, %d", tell(x), got, errno, want)
 	}
 	if after := stateOf(t, r); after != before {
 		t.Errorf("Accept(%s) with an error left %s, was %s", tell(x), after, before)
+	}
+	if after := bytesOf(t, r); after != kept {
+		t.Errorf("Accept(%s) with an error left bytes %q, were %q", tell(x), after, kept)
 	}
 }
 
@@ -128,12 +131,49 @@ func answers(t *testing.T, r *culvert.Relay, key string, held int) {
 // denies tells the relay a token that must be answered by an error, and change nothing that can be seen.
 func denies(t *testing.T, r *culvert.Relay, key string, held int, want api.Errno) {
 	t.Helper()
-	state, put := stateOf(t, r), putsOf(t, r)
+	state, put, kept := stateOf(t, r), putsOf(t, r), bytesOf(t, r)
 	if errno := r.Answer(key, held); errno != want {
 		t.Errorf("Answer(%.20q, %d) = %d, want %d", key, held, errno, want)
 	}
 	if after := stateOf(t, r); after != state {
 		t.Errorf("Answer(%.20q, %d) with an error left %s, was %s", key, held, after, state)
 	}
+	if after := bytesOf(t, r); after != kept {
+		t.Errorf("Answer(%.20q, %d) with an error left bytes %q, were %q", key, held, after, kept)
+	}
 	puts(t, r, put)
+}
+
+func bytesOf(t *testing.T, r *culvert.Relay) string {
+	t.Helper()
+	bytes, errno := r.Bytes()
+	if errno != api.OK {
+		t.Fatalf("Bytes() answers %d, want OK", errno)
+	}
+	return bytes
+}
+
+// opens makes a relay of bytes that must be good.
+func opens(t *testing.T, bytes string) *culvert.Relay {
+	t.Helper()
+	r, errno := culvert.Open(bytes)
+	if r == nil || errno != api.OK {
+		t.Fatalf("Open(%.80q) gives a relay: %t, with %d", bytes, r != nil, errno)
+	}
+	return r
+}
+
+// shrunk are the bytes behind a Shrink.
+func shrunk(t *testing.T, r *culvert.Relay) string {
+	t.Helper()
+	if errno := r.Shrink(); errno != api.OK {
+		t.Fatalf("Shrink() = %d, want OK", errno)
+	}
+	return bytesOf(t, r)
+}
+
+// again makes another relay of the bytes of this one.
+func again(t *testing.T, r *culvert.Relay) *culvert.Relay {
+	t.Helper()
+	return opens(t, bytesOf(t, r))
 }

@@ -48,3 +48,13 @@ func waits(t *testing.T, name string, r *Relay, call func(r *Relay)) {
 		t.Errorf("%s left the relay locked", name)
 	}
 }
+
+// A relay that was closed holds on to nothing.
+func TestCloseLetsGo(t *testing.T) {
+	r := New()
+	r.Accept(api.Record{Key: "s", Value: 1})
+	r.Close()
+	if r.bytes != nil || len(r.flow.State().Keys) != 0 {
+		t.Errorf("%q and %v are kept behind Close", r.bytes, r.flow.State())
+	}
+}

@@ -19,6 +19,12 @@ type model struct {
 	answered    []api.Put // each answer with OK: a key and a token
 }
 
+func (m *model) clone() *model {
+	c := *m
+	c.waits, c.taken, c.answered = slices.Clone(m.waits), slices.Clone(m.taken), slices.Clone(m.answered)
+	return &c
+}
+
 func (m *model) accept(x api.Record) (int, api.Errno) {
 	if x.Session < 0 || x.Session > 3 {
 		return 0, api.ErrSession
@@ -150,10 +156,12 @@ func foldAll(name string, values []int) int {
 func sameAccept(t *testing.T, r *culvert.Relay, m *model, x api.Record) {
 	t.Helper()
 	wantBase, wantErrno := m.accept(x)
+	kept := bytesOf(t, r)
 	base, errno := r.Accept(x)
 	if base != wantBase || errno != wantErrno {
 		t.Fatalf("Accept(%s) = %d, %d, want %d, %d", tell(x), base, errno, wantBase, wantErrno)
 	}
+	grows(t, r, kept, errno)
 	sameStand(t, r, m, x)
 }
 
@@ -161,10 +169,22 @@ func sameAccept(t *testing.T, r *culvert.Relay, m *model, x api.Record) {
 func sameAnswer(t *testing.T, r *culvert.Relay, m *model, key string, held int) {
 	t.Helper()
 	want := m.answer(key, held)
-	if errno := r.Answer(key, held); errno != want {
+	kept := bytesOf(t, r)
+	errno := r.Answer(key, held)
+	if errno != want {
 		t.Fatalf("Answer(%.20q, %d) = %d, want %d", key, held, errno, want)
 	}
+	grows(t, r, kept, errno)
 	sameStand(t, r, m, api.Put{Key: key, Token: held})
+}
+
+// grows sees that the bytes have at most something behind them, and nothing with an error (P1, P8).
+func grows(t *testing.T, r *culvert.Relay, kept string, errno api.Errno) {
+	t.Helper()
+	now := bytesOf(t, r)
+	if !strings.HasPrefix(now, kept) || errno != api.OK && now != kept {
+		t.Fatalf("behind a call that answers %d the bytes are %q, were %q", errno, now, kept)
+	}
 }
 
 // sameStand holds how both stand together, behind what was sent.
@@ -186,35 +206,51 @@ func pick[T any](source *rand.Rand, ordinary T, odd ...T) T {
 	return odd[source.Intn(len(odd))]
 }
 
-// P4 to P7, with long runs of records from a seeded source: near the base, again, of late epochs,
+// P4 to P8, with long runs of records from a seeded source: near the base, again, of late epochs,
 // of more keys than four, of more records than 1000, and of all that is wrong; and between them answers,
 // of tokens at, below and above what is held, and above the count.
-func TestP4ToP7AgainstTheWords(t *testing.T) {
-	names := []string{"c", "s", "l", "m", "s\x00", "s\xff", "l12345", "c1"}
+func TestP4ToP8AgainstTheWords(t *testing.T) {
 	for seed := range int64(12) {
 		source := rand.New(rand.NewSource(seed))
 		r, m := culvert.New(), &model{}
 		keys := 2 + int(seed)%7
-		for range 1800 {
-			session := source.Intn(4)
-			x := api.Record{
-				Session: pick(source, session, -1, 4, minInt, maxInt),
-				Epoch:   m.epoch[session],
-				Number:  pick(source, m.base[session]+source.Intn(5)-1, -1, minInt, maxInt, 0, m.base[session]+4),
-				Key:     pick(source, names[source.Intn(keys)], "", "x", "sevenby", names[7]),
-				Value:   pick(source, source.Intn(10), 0, -1, maxValue, maxValue+1, minInt, maxInt),
-			}
-			if source.Intn(60) == 0 {
-				x.Epoch += source.Intn(4) - 1
-				x.Number = source.Intn(5)
-			}
-			sameAccept(t, r, m, x)
-			if source.Intn(4) == 0 {
-				key := pick(source, names[source.Intn(keys)], "", "x", "sevenby", names[7])
-				sameAnswer(t, r, m, key, anyToken(source, m, key))
-			}
+		for range 2250 {
+			sameCall(t, source, r, m, keys)
 		}
 	}
+}
+
+// sameCall does one thing to both: what the source picks.
+func sameCall(t *testing.T, source *rand.Rand, r *culvert.Relay, m *model, keys int) {
+	t.Helper()
+	if source.Intn(5) > 0 {
+		sameAccept(t, r, m, anyRecord(source, m, keys))
+		return
+	}
+	key := anyKey(source, keys)
+	sameAnswer(t, r, m, key, anyToken(source, m, key))
+}
+
+// anyRecord is mostly one that is near the base of its session, of so many keys.
+func anyRecord(source *rand.Rand, m *model, keys int) api.Record {
+	session := source.Intn(4)
+	x := api.Record{
+		Session: pick(source, session, -1, 4, minInt, maxInt),
+		Epoch:   m.epoch[session],
+		Number:  pick(source, m.base[session]+source.Intn(5)-1, -1, minInt, maxInt, 0, m.base[session]+4),
+		Key:     anyKey(source, keys),
+		Value:   pick(source, source.Intn(10), 0, -1, maxValue, maxValue+1, minInt, maxInt),
+	}
+	if source.Intn(60) == 0 {
+		x.Epoch += source.Intn(4) - 1
+		x.Number = source.Intn(5)
+	}
+	return x
+}
+
+func anyKey(source *rand.Rand, keys int) string {
+	names := []string{"c", "s", "l", "m", "s\x00", "s\xff", "l12345", "c1"}
+	return pick(source, names[source.Intn(keys)], "", "x", "sevenby", names[7])
 }
 
 // anyToken is mostly one that the sink can hold: near Held, or near the count.

@@ -112,18 +112,20 @@ func TestP1WrongInputsEnd(t *testing.T) {
 	shows(t, r, before)
 }
 
-// P1: Open ends, and gives a relay or an error, never both and never neither.
+// P1: Open ends, and gives a relay or an error, never both and never neither; so do all calls of that relay.
 func TestP1OpenOfAnyBytesEnds(t *testing.T) {
+	kept := bytesOf(t, waitingEverywhere(t))
 	for _, bytes := range []string{"", "\x00", "\xff", "s", "culvert", strings.Repeat("\x00", 1<<16), strings.Repeat("\xff", 1<<16)} {
-		r, errno := culvert.Open(bytes)
-		if (r == nil) == (errno == api.OK) {
-			t.Errorf("Open(%.20q) gives a relay: %t, with %d", bytes, r != nil, errno)
-		}
-		if errno != api.OK && errno != api.ErrBytes {
-			t.Errorf("Open(%.20q) answers %d", bytes, errno)
-		}
-		if r != nil {
-			stateOf(t, r)
-		}
+		anyRelay(t, bytes)
+		anyRelay(t, kept+bytes)
+		anyRelay(t, bytes+kept)
+		anyRelay(t, kept[:20]+bytes+kept[20:])
+	}
+}
+
+// P1: bytes that are not taken give no relay at all.
+func TestP1RefusedBytesGiveNil(t *testing.T) {
+	if r, errno := culvert.Open(strings.Repeat("x", 30)); r != nil || errno != api.ErrBytes {
+		t.Errorf("Open gives a relay: %t, with %d", r != nil, errno)
 	}
 }

@@ -99,8 +99,10 @@ func TestP2SameCallsSameAnswers(t *testing.T) {
 		var told []string
 		for i := range 300 {
 			r.Accept(in(i%4, i/90, rec((i*7)%90/4, []string{"s", "l", "m1", "c", "c1"}[i%5], i)))
-			s, _ := r.State()
-			told = append(told, text(s))
+			if i%50 == 49 {
+				r.Shrink()
+			}
+			told = append(told, stateOf(t, r), putsOf(t, r), bytesOf(t, r))
 		}
 		return told
 	}
@@ -131,6 +133,36 @@ func TestManyCallersOfOneRelay(t *testing.T) {
 	}
 	senders.Wait()
 	shows(t, r, `0:250[] 0:250[] 0:250[] 0:250[] "s"=1000,124500,0`)
+}
+
+// Ways, Mutex: the bytes are whole whenever they are asked for, whoever else calls.
+func TestManyCallersOfOneRelaysBytes(t *testing.T) {
+	r := culvert.New()
+	var callers sync.WaitGroup
+	for caller := range 8 {
+		callers.Go(func() {
+			for n := range 100 {
+				if base, errno := r.Accept(in(caller%4, 0, rec(n, "s", 1))); base <= n || errno != api.OK {
+					t.Errorf("caller %d, number %d: %d, %d", caller, n, base, errno)
+				}
+				if n%10 == caller {
+					r.Shrink()
+				}
+				r.Answer("s", n)
+				kept, _ := r.Bytes()
+				q, errno := culvert.Open(kept)
+				if errno != api.OK {
+					t.Errorf("Open(%q) = %d", kept, errno)
+					return
+				}
+				if s, _ := q.State(); s.Sessions[caller%4].Base <= n {
+					t.Errorf("number %d of session %d was answered, but is not kept", n, caller%4)
+				}
+			}
+		})
+	}
+	callers.Wait()
+	shows(t, again(t, r), `0:100[] 0:100[] 0:100[] 0:100[] "s"=400,400,99`)
 }
 
 // Ways, Once: of many who close a relay at the same time, one is told that it did.

@@ -14,32 +14,32 @@ type Flow struct {
 	keys  ledger
 }
 
-// Accept lets a record in, and tells the base of its session (P4).
-func (f *Flow) Accept(x api.Record) (int, api.Errno) {
+// Accept lets a record in, and tells the base of its session (P4), and whether anything changed.
+func (f *Flow) Accept(x api.Record) (int, bool, api.Errno) {
 	if errno := checkRecord(x); errno != api.OK {
-		return 0, errno
+		return 0, false, errno
 	}
 	if x.Epoch < f.lanes[x.Session].epoch {
-		return 0, api.ErrEpoch
+		return 0, false, api.ErrEpoch
 	}
 	// The epoch turns in a copy: if an error follows, it has not turned.
 	after := *f
 	current := &after.lanes[x.Session]
 	current.turn(x.Epoch)
 	if !current.reaches(x.Number) {
-		return 0, api.ErrFar
+		return 0, false, api.ErrFar
 	}
 	if current.has(x.Number) {
-		return current.base, api.OK
+		return current.base, false, api.OK
 	}
 	if errno := after.checkRoom(x.Key); errno != api.OK {
-		return 0, errno
+		return 0, false, errno
 	}
 	// The key is cloned, lest a few bytes hold on to a long text of the caller's.
 	current.add(waiter{number: x.Number, key: strings.Clone(x.Key), value: x.Value})
 	after.drain(x.Session)
 	*f = after
-	return current.base, api.OK
+	return current.base, true, api.OK
 }
 
 // checkRoom says whether one more record, of this key, may be taken or wait.

@@ -1,6 +1,7 @@
 package flow
 
 import (
+	"cmp"
 	"container/heap"
 	"slices"
 
@@ -42,12 +43,15 @@ func (l *lane) next() (waiter, bool) {
 	return heap.Pop(&l.waiting).(waiter), true
 }
 
-// state sorts the numbers, since a heap is in order only at its top.
+// ordered sorts those that wait, since a heap is in order only at its top.
+func (l *lane) ordered() []waiter {
+	return slices.SortedFunc(slices.Values(l.waiting), func(a, b waiter) int { return cmp.Compare(a.number, b.number) })
+}
+
 func (l *lane) state() api.Session {
 	numbers := make([]int, 0, len(l.waiting))
-	for _, w := range l.waiting {
+	for _, w := range l.ordered() {
 		numbers = append(numbers, w.number)
 	}
-	slices.Sort(numbers)
 	return api.Session{Epoch: l.epoch, Base: l.base, Waiting: numbers}
 }

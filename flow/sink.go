@@ -13,20 +13,23 @@ func (f *Flow) Puts() []api.Put {
 	return puts
 }
 
-// Answer takes the token that the sink says it holds for a key (P7).
-func (f *Flow) Answer(name string, held int) api.Errno {
+// Answer takes the token that the sink says it holds for a key (P7), and tells whether anything changed.
+func (f *Flow) Answer(name string, held int) (bool, api.Errno) {
 	if !isKey(name) {
-		return api.ErrKey
+		return false, api.ErrKey
 	}
 	at, found := f.keys.find(name)
 	if !found {
-		return api.ErrNone
+		return false, api.ErrNone
 	}
 	key := &f.keys[at]
 	if held < 0 || held > key.Count {
-		return api.ErrHeld
+		return false, api.ErrHeld
 	}
 	// Answers come late and out of order: an older one takes nothing back.
-	key.Held = max(key.Held, held)
-	return api.OK
+	if held <= key.Held {
+		return false, api.OK
+	}
+	key.Held = held
+	return true, api.OK
 }
